@@ -1,0 +1,1 @@
+"""Names, words and offers, and the parts that have them."""
