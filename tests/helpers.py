@@ -1,6 +1,6 @@
 """What the tests share: values of every kind, and plain slow ways to tell what a part does.
 
-Nothing here calls the functions that are tested, except to make parts as values.
+Nothing here calls the functions that are tested, except to make values of the package.
 """
 
 import itertools
@@ -8,6 +8,8 @@ import random
 import re
 
 from whatparts.core.parts import Part
+from whatparts.glue.joints import Joint
+from whatparts.want.wishes import Wish, free_wish
 
 
 def turn():
@@ -28,6 +30,8 @@ def deep(wrap, depth=9):
 def values_of_every_kind():
     """New values of each kind that [0.4] names, right ones and wrong ones for most parameters."""
     part = turn()
+    wish = free_wish(("a",)).lively()
+    joint = Joint({"left": ("a",)}, ({"put": ({"left": "a"}, 0)},), (("left",),))
     return [
         0, 1, 2, 3, 4, 5, 6, 7, 8, -1, -8, 10 ** 11, 10 ** 40 - 1, 1 - 10 ** 40, True, False, None,
         "", "a", "put", "get", "abcdefgh", "abcdefghi", "A", "a1", "a b", " a", "a\n", "\n", "_", "%", "x" * 300,
@@ -41,6 +45,7 @@ def values_of_every_kind():
         {None: None}, {("a",): ("a",)}, {"a": []},
         deep(lambda value: (value,)), deep(lambda value: [value]), deep(lambda value: {"a": value}),
         part, (part,), [part], {"a": part}, (("a",), part),
+        Wish((), ()), wish, (wish,), [wish], {"a": wish}, joint, (joint,), [joint], {"left": joint}, (part, wish, joint),
     ]
 
 

@@ -3,11 +3,18 @@
 import doctest
 import unittest
 
+from whatparts.core.alike import are_alike, covers, difference, is_difference, word_beyond
 from whatparts.core.names import all_offers, all_words, is_offer, is_word
 from whatparts.core.parts import Part
+from whatparts.glue.joints import Joint
+from whatparts.want.keeping import is_keep_paper, keep_paper, keeps, ways
+from whatparts.want.wishes import Wish, free_wish
 
 EXAMPLES = '''
 >>> TURN = Part(({"put": 1}, {"get": 0}), (0,))
+>>> BELT = Joint({"left": ("get", "put"), "right": ("take",)}, ({"put": ({"left": "put"}, 0), "take": ({"left": "get", "right": "take"}, 0)},), (("left",),))
+>>> ONE = Wish((((("put",), True),), ((("take",), False),)), ({"put": 1}, {"take": 0}))
+>>> FEW = Wish(((((), True), (("a",), False)),), ({"a": 0},), lively=True)
 
 >>> [all_offers(("a",)), list(all_words(("a", "b"), 2)), is_offer((("a", "b"), True)), is_offer((("b", "a"), True)), is_word(("b", "b", "a"))]
 [(((), False), ((), True), (('a',), False), (('a',), True)), [(), ('a',), ('b',), ('a', 'a'), ('a', 'b'), ('b', 'a'), ('b', 'b')], True, False, True]
@@ -19,8 +26,28 @@ EXAMPLES = '''
 [True, False, True]
 >>> [(TURN & Part(({"put": 0},))).steps, (TURN | Part(({"get": 0},), (0,)))[("put", "get", "put")], len(TURN.without(("put",))), TURN.without(("put",)).least() == Part(({},), (0,))]
 [({'put': 1}, {}), (('get',), False), 2, True]
+
+>>> SLOW = Part(({"put": 1}, {"get": 2}, {"put": 1}), (0,))
+>>> [are_alike(TURN, SLOW), difference(TURN, SLOW), is_difference(TURN, SLOW, ("put", "get")), are_alike(LOOSE, LOOSE.least()), covers(TURN, SLOW), word_beyond(TURN, Part(({"put": 0},)))]
+[False, ('put', 'get'), True, True, True, ('put', 'put')]
+
+>>> [len(ONE), ONE.after(("put", "take", "put")), ONE.allows(("put",), (("take",), True)), FEW.goals, FEW.has_goals, str(FEW)]
+[2, 1, False, ((((((), True),), {'a': (0,)}),),), True, 'wish of 1 states, 2 offers, 1 goals']
+>>> [ONE.lively().goals[1], ONE.lively().without_goals() == ONE, free_wish(()).offers, Wish((), ()).is_empty, Wish((), ()).after(())]
+[(((), {'take': (0,)}),), True, ((((), False), ((), True)),), True, None]
+
+>>> WHOLE = BELT({"left": TURN, "right": Part(({"take": 0},))})
+>>> [keeps(WHOLE, ONE), keep_paper(WHOLE, ONE), is_keep_paper(TURN, ONE, ("offer", ("put",))), keeps(TURN, ONE), keep_paper(TURN, Wish((), ()))]
+[True, ('kept', {(0, 0): (), (1, 1): ()}), True, False, ('offer', ())]
+>>> SOME = Part(({"a": 1}, {}), (1,))
+>>> [keeps(SOME, FEW), ways(SOME, FEW, ()), is_keep_paper(SOME, FEW, ("kept", {(0, 0): (1,), (1, 0): (0,)})), keep_paper(Part(({"a": 0},)), FEW)[0], is_keep_paper(Part(({"a": 0},)), FEW, ("goal", ("a", "a"), 0))]
+[True, (('a',),), True, 'goal', True]
+
+>>> [WHOLE.steps, WHOLE.rests, BELT.after(("put", "take", "take")), BELT.seen("left", ("put", "take", "take")), BELT.seen("right", ("put",)), str(BELT)]
+[({'put': 1}, {'take': 0}), (0,), 0, ('put', 'get', 'get'), (), 'joint of 2 slots, 1 modes, 2 rules']
 '''
-BROUGHT = (Part, all_offers, all_words, is_offer, is_word)
+BROUGHT = (Joint, Part, Wish, all_offers, all_words, are_alike, covers, difference, free_wish, is_difference,
+           is_keep_paper, is_offer, is_word, keep_paper, keeps, ways, word_beyond)
 
 
 class Examples(unittest.TestCase):
@@ -30,7 +57,7 @@ class Examples(unittest.TestCase):
         told = []
         result = doctest.DocTestRunner(verbose=False).run(examples, out=told.append)
         self.assertEqual(result.failed, 0, "".join(told))
-        self.assertEqual(result.attempted, 6)
+        self.assertEqual(result.attempted, 18)
 
 
 if __name__ == "__main__":

@@ -27,7 +27,7 @@ def is_word(value):
 
 
 def ascends(items):
-    """Whether names or numbers are strictly ascending."""
+    """Whether names, numbers or offers are strictly ascending."""
     return list(items) == sorted(set(items))
 
 
@@ -41,6 +41,15 @@ def is_offer(value):
     if not isinstance(value, tuple) or len(value) != 2:
         return False
     return is_set(value[0]) and isinstance(value[1], bool)
+
+
+def are_new_names(names, old):
+    """Whether this is a dict from just these old names to different names."""
+    if not isinstance(names, dict) or len(names) != len(old):
+        return False
+    if not all([name in names and is_name(names[name]) for name in old]):
+        return False
+    return len(set(list(names.values()))) == len(old)
 
 
 def check_actions(actions):

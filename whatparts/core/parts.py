@@ -1,8 +1,8 @@
 """Parts: what they offer, which words they have, and parts that are made of parts."""
 
-from whatparts.core.names import MAX_ACTIONS, MAX_LENGTH
+from whatparts.core.names import MAX_ACTIONS, MAX_LENGTH, are_new_names
 from whatparts.core.names import ascends, check_length, is_name, is_number, is_set, is_word
-from whatparts.core.tables import follow, least_table, pair_table, word_table
+from whatparts.core.tables import copied_steps, follow, least_table, pair_table, word_table
 from whatparts.errors import InvalidNumber, InvalidOperation, InvalidPart, TooMany
 
 MAX_STATES = 8
@@ -17,7 +17,7 @@ class Part:
             raise InvalidPart("steps are no tuple of one to eight dicts from names to states")
         if not _are_rests(rests, len(steps)):
             raise InvalidPart("rests are no ascending tuple of states")
-        self._steps = _copied(steps)
+        self._steps = copied_steps(steps)
         self._rests = rests
 
     @classmethod
@@ -33,7 +33,7 @@ class Part:
     @property
     def steps(self):
         """For each state a dict from its actions to the next states."""
-        return _copied(self._steps)
+        return copied_steps(self._steps)
 
     @property
     def rests(self):
@@ -77,7 +77,7 @@ class Part:
 
     def renamed(self, names):
         """The part with other names for its actions."""
-        if not _are_new_names(names, self.actions):
+        if not are_new_names(names, self.actions):
             raise InvalidOperation("names are no dict from just the actions to different names")
         return make_part([{names[old]: row[old] for old in row} for row in self._steps], self._rests)
 
@@ -89,13 +89,11 @@ class Part:
         return make_part(rows, self._rests)
 
     def __and__(self, other):
-        if not isinstance(other, Part):
-            raise InvalidPart("the operand on the right is no part")
+        check_part(other)
         return _least_part(pair_table((self._steps, self._rests), (other._steps, other._rests), True))
 
     def __or__(self, other):
-        if not isinstance(other, Part):
-            raise InvalidPart("the operand on the right is no part")
+        check_part(other)
         if len(set(self.actions) | set(other.actions)) > MAX_ACTIONS:
             raise TooMany(MAX_ACTIONS)
         return _least_part(pair_table((self._steps, self._rests), (other._steps, other._rests), False))
@@ -121,10 +119,16 @@ class Part:
         return f"part of {len(self._steps)} states, {len(self.actions)} actions"
 
 
+def check_part(value):
+    """Raise InvalidPart for what is no part."""
+    if not isinstance(value, Part):
+        raise InvalidPart("this is no part")
+
+
 def make_part(steps, rests):
     """The part with these steps and rests, which may have more than eight states."""
     part = Part(({},))
-    part._steps = _copied(steps)
+    part._steps = copied_steps(steps)
     part._rests = tuple(rests)
     return part
 
@@ -133,11 +137,6 @@ def _least_part(table):
     """The least part with the words and offers of a table."""
     steps, rests = least_table(table[0], table[1])
     return make_part(steps, rests)
-
-
-def _copied(steps):
-    """The same steps in new dicts with ascending keys."""
-    return tuple([{name: row[name] for name in sorted(row)} for row in steps])
 
 
 def _are_steps(steps):
@@ -170,12 +169,3 @@ def _are_words(words):
     if not all([is_word(word) and len(word) <= MAX_LENGTH for word in words]):
         return False
     return len({name for word in words for name in word}) <= MAX_ACTIONS
-
-
-def _are_new_names(names, actions):
-    """Whether this is a dict from just these actions to different names."""
-    if not isinstance(names, dict) or len(names) != len(actions):
-        return False
-    if not all([action in names and is_name(names[action]) for action in actions]):
-        return False
-    return len(set(list(names.values()))) == len(actions)

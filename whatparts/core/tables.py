@@ -4,6 +4,11 @@ A table has a dict for each state, from actions to next states; its state 0 is t
 """
 
 
+def copied_steps(steps):
+    """The same steps in a tuple of new dicts with ascending keys."""
+    return tuple([{name: row[name] for name in sorted(row)} for row in steps])
+
+
 def follow(steps, word):
     """The state to which a word leads from the first one, or None."""
     state = 0
@@ -16,7 +21,7 @@ def follow(steps, word):
 
 def least_table(steps, rests):
     """The steps and rests of the alike part with the fewest states, in the order of first words."""
-    order = _reached(steps)
+    order = reached(steps)
     groups = _groups(steps, rests, order)
     firsts = {}
     for state in order:
@@ -25,7 +30,7 @@ def least_table(steps, rests):
     return rows, [group for group in firsts if firsts[group] in rests]
 
 
-def _reached(steps):
+def reached(steps):
     """The states to which words lead, in the order of the first words that do."""
     order = [0]
     seen = {0: True}
@@ -61,6 +66,38 @@ def _split(steps, rests, groups):
         targets = tuple([(action, groups[row[action]]) for action in sorted(row)])
         finer[state] = numbers.setdefault((groups[state], state in rests, targets), len(numbers))
     return finer
+
+
+def walk_both(one, other):
+    """The pairs of states to which words that both have lead, in the order of their first words.
+
+    With them comes, for each pair, how its first word reaches it: the place of the pair before it in
+    this order, and the last action. `word_to` tells the word by that.
+    """
+    pairs = [(0, 0)]
+    came = [(0, None)]
+    seen = {(0, 0): True}
+    at = 0
+    while at < len(pairs):
+        first, second = one[pairs[at][0]], other[pairs[at][1]]
+        for action in sorted(set(first) & set(second)):
+            pair = (first[action], second[action])
+            if pair not in seen:
+                seen[pair] = True
+                pairs.append(pair)
+                came.append((at, action))
+        at += 1
+    return pairs, came
+
+
+def word_to(came, at):
+    """The first word that leads to the pair at this place."""
+    # Each pair keeps one action alone, as long words of many pairs would take too much room.
+    actions = []
+    while at > 0:
+        at, action = came[at]
+        actions.append(action)
+    return tuple(actions[::-1])
 
 
 def pair_table(one, other, both):

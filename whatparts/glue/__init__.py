@@ -1,0 +1,1 @@
+"""Joints, and the wholes that they build of parts."""

@@ -1,0 +1,1 @@
+"""Wishes, and parts that keep them."""
