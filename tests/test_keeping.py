@@ -230,6 +230,14 @@ class Papers(unittest.TestCase):
                       [((0, 0), (1,)), ((1, 0), (0,))], None, 0, True, "", "kept", some()):
             self.assertIs(is_keep_paper(some(), few(), ("kept", wrong)), False, wrong)
 
+    def test_tables_under_another_word(self):
+        right = {(0, 0): (1,), (1, 0): (0,)}
+        self.assertTrue(is_keep_paper(some(), few(), ("kept", right)))
+        for paper in (("offer", right), ("goal", right), ("Kept", right), ("", right), (None, right), (right, right),
+                      (("kept",), right), ("kept", right, 0), ("kept", right, right), ("kept", (), 0), ("kept",),
+                      (right,), (right, "kept"), ["kept", right], {"kept": right}, right):
+            self.assertIs(is_keep_paper(some(), few(), paper), False, paper)
+
     def test_tables_with_more_pairs(self):
         part = Part(({"a": 1}, {}, {"a": 2}, {"a": 1}, {"b": 0}), (1,))
         right = {(0, 0): (1,), (1, 0): (0,)}

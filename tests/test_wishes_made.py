@@ -3,10 +3,9 @@
 import random
 import unittest
 
-from tests.helpers import lead, offer_in, right_set, values_of_every_kind
+from tests.helpers import offer_in, right_set, values_of_every_kind
 from tests.wishing import LEFT, RIGHT, does_keep, every_offer, few, part_of, picked_part, reached_pairs, right_wish
 from tests.wishing import some_pairs, some_wishes, tables_of, turns, two, wish_of
-from whatparts.core.parts import Part
 from whatparts.errors import InvalidOperation, InvalidWish
 from whatparts.want.wishes import Wish, free_wish
 

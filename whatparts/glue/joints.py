@@ -99,12 +99,6 @@ class Joint:
         return f"joint of {len(self._slots)} slots, {len(self._rules)} modes, {rules} rules"
 
 
-def check_joint(value):
-    """Raise InvalidJoint for what is no joint."""
-    if not isinstance(value, Joint):
-        raise InvalidJoint("this is no joint")
-
-
 def make_joint(slots, rules, rests):
     """The joint with these slots and modes, of which there may be more than a caller may pass."""
     joint = Joint({"a": ()}, ({},), (None,))
