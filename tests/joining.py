@@ -124,3 +124,85 @@ def small_parts(actions):
                 found.append((({name: 0 for name in names},), rests))
                 found.append((({name: 1 for name in names}, {name: 0 for name in actions}), rests))
     return found
+
+
+def joint_of(tables):
+    return Joint(*tables)
+
+
+def do_modes_differ(one, first, other, second):
+    """Whether two modes differ, clause by clause as the document has it."""
+    row, beside = one[1][first], other[1][second]
+    return set(row) != set(beside) or any(row[action][0] != beside[action][0] for action in row) or \
+        one[2][first] != other[2][second]
+
+
+def modes_after(joint, word):
+    """The mode to which rules lead, or None."""
+    mode = 0
+    for action in word:
+        if action not in joint[1][mode]:
+            return None
+        _, mode = joint[1][mode][action]
+    return mode
+
+
+def plain_difference(one, other, words):
+    """The first of some words, in their order, after which the modes of two joints differ, or None."""
+    for word in words:
+        first, second = modes_after(one, word), modes_after(other, word)
+        if first is not None and second is not None and do_modes_differ(one, first, other, second):
+            return word
+    return None
+
+
+def doubled(source, joint):
+    """A joint with no difference to one of at most two modes: each mode stands twice, in any order."""
+    slots, rules, rests = joint
+    places = [[2 * mode, 2 * mode + 1] for mode in range(len(rules))]
+    if source.random() < 0.5 and len(rules) == 2:
+        places = [[0, 2], [1, 3]]
+    rows, ends = [None] * (2 * len(rules)), [None] * (2 * len(rules))
+    for mode, row in enumerate(rules):
+        for place in places[mode]:
+            rows[place] = {action: (needs, source.choice(places[goal])) for action, (needs, goal) in row.items()}
+            ends[place] = rests[mode]
+    return slots, tuple(rows), tuple(ends)
+
+
+def changed_joint(source, joint):
+    """A joint with one mode changed at one place."""
+    slots, rules, rests = joint
+    rows, ends = [dict(row) for row in rules], list(rests)
+    mode = source.randrange(len(rows))
+    kind = source.choice(("rests", "rule", "needs"))
+    if kind == "rests" or not rows[mode]:
+        ends[mode] = source.choice([row for row in (None, (), *[(slot,) for slot in slots], tuple(slots))])
+    elif kind == "rule":
+        del rows[mode][source.choice(sorted(rows[mode]))]
+    else:
+        action = source.choice(sorted(rows[mode]))
+        rows[mode][action] = some_needs(source, slots), rows[mode][action][1]
+    return slots, tuple(rows), tuple(ends)
+
+
+def joint_steps(joint):
+    return [{action: goal for action, (_, goal) in row.items()} for row in joint[1]]
+
+
+def is_least_joint(joint):
+    """Whether all modes are reached, in the order of their first words, and each two differ behind some word."""
+    best = first_words(joint_steps(joint))
+    if sorted(best) != list(range(len(joint[1]))) or [best[at] for at in range(len(best))] != sorted(best.values()):
+        return False
+    pairs = list(itertools.product(range(len(joint[1])), repeat=2))
+    marked = {(p, q) for p, q in pairs if do_modes_differ(joint, p, joint, q)}
+    changed = True
+    while changed:
+        changed = False
+        for p, q in pairs:
+            if (p, q) not in marked and any((joint[1][p][action][1], joint[1][q][action][1]) in marked
+                                            for action in joint[1][p]):
+                marked.add((p, q))
+                changed = True
+    return all((p, q) in marked for p, q in pairs if p != q)

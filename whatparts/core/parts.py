@@ -2,7 +2,7 @@
 
 from whatparts.core.names import MAX_ACTIONS, MAX_LENGTH, are_new_names
 from whatparts.core.names import ascends, check_length, is_name, is_number, is_set, is_word
-from whatparts.core.tables import copied_steps, follow, least_table, pair_table, word_table
+from whatparts.core.tables import copied_steps, follow, least_rows, pair_table, word_table
 from whatparts.errors import InvalidNumber, InvalidOperation, InvalidPart, TooMany
 
 MAX_STATES = 8
@@ -135,8 +135,9 @@ def make_part(steps, rests):
 
 def _least_part(table):
     """The least part with the words and offers of a table."""
-    steps, rests = least_table(table[0], table[1])
-    return make_part(steps, rests)
+    steps, rests = table
+    rows, states = least_rows(steps, [state in rests for state in range(len(steps))])
+    return make_part(rows, [at for at, state in enumerate(states) if state in rests])
 
 
 def _are_steps(steps):

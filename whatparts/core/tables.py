@@ -19,15 +19,18 @@ def follow(steps, word):
     return state
 
 
-def least_table(steps, rests):
-    """The steps and rests of the alike part with the fewest states, in the order of first words."""
+def least_rows(steps, marks):
+    """The steps between the fewest states that have the same marks behind all words, and an old state for each.
+
+    They stand in the order of their first words. The marks, one for each old state, can be keys of a dict.
+    """
     order = reached(steps)
-    groups = _groups(steps, rests, order)
+    groups = _groups(steps, marks, order)
     firsts = {}
     for state in order:
         firsts.setdefault(groups[state], state)
     rows = [{action: groups[steps[state][action]] for action in steps[state]} for state in firsts.values()]
-    return rows, [group for group in firsts if firsts[group] in rests]
+    return rows, list(firsts.values())
 
 
 def reached(steps):
@@ -45,18 +48,21 @@ def reached(steps):
     return order
 
 
-def _groups(steps, rests, order):
-    """A number for each state of the order: the same for states after which all is alike."""
-    groups = {state: 0 for state in order}
+def _groups(steps, marks, order):
+    """A number for each state of the order: the same for states behind which all marks are the same."""
+    numbers = {}
+    groups = {}
+    for state in order:
+        groups[state] = numbers.setdefault(marks[state], len(numbers))
     while True:
-        finer = _split(steps, rests, groups)
+        finer = _split(steps, groups)
         if finer == groups:
             return groups
         groups = finer
 
 
-def _split(steps, rests, groups):
-    """The groups with those states parted that differ at once or by the groups to which they step."""
+def _split(steps, groups):
+    """The groups with those states parted that differ by the groups to which they step."""
     # The old group is in each key, so a group is only ever split; and numbers are given in the
     # order of the states, so groups that are split no further keep their numbers.
     numbers = {}
@@ -64,7 +70,7 @@ def _split(steps, rests, groups):
     for state in groups:
         row = steps[state]
         targets = tuple([(action, groups[row[action]]) for action in sorted(row)])
-        finer[state] = numbers.setdefault((groups[state], state in rests, targets), len(numbers))
+        finer[state] = numbers.setdefault((groups[state], targets), len(numbers))
     return finer
 
 

@@ -108,6 +108,25 @@ def make_joint(slots, rules, rests):
     return joint
 
 
+def check_joint(value):
+    """Raise InvalidJoint for what is no joint."""
+    if not isinstance(value, Joint):
+        raise InvalidJoint("this is no joint")
+
+
+def check_slot(joint, slot):
+    """Raise InvalidJoint for what is no joint, UnknownName for what is none of its slots."""
+    check_joint(joint)
+    if slot not in joint:
+        raise UnknownName(slot)
+
+
+def slots_beside(joint, slot):
+    """The slots of a joint without this one, with their actions."""
+    slots = joint.slots
+    return {name: slots[name] for name in slots if name != slot}
+
+
 def check_parts(slots, parts):
     """Raise the error for what is no dict from just these slots to parts with actions of the slots."""
     if not isinstance(parts, dict) or len(parts) != len(slots) or not all([slot in parts for slot in slots]):

@@ -103,11 +103,11 @@ class Wish:
         numbers = {pair: at for at, pair in enumerate(pairs)}
         offers = [[offer for offer in self._offers[p] if offer in other._offers[q]] for p, q in pairs]
         steps = [
-            {name: numbers[(self._steps[p][name], other._steps[q][name])] for name in _names_in(offers[at])}
+            {name: numbers[(self._steps[p][name], other._steps[q][name])] for name in names_in(offers[at])}
             for at, (p, q) in enumerate(pairs)
         ]
         goals = [
-            _limited(self._goals[p], offers[at]) + _limited(_moved_on(self, other, p, q), offers[at])
+            limited_goals(self._goals[p], offers[at]) + limited_goals(_moved_on(self, other, p, q), offers[at])
             for at, (p, q) in enumerate(pairs)
         ]
         return reached_wish(offers, steps, goals)
@@ -165,9 +165,9 @@ def _with_lively(offers, steps, goals):
     return tuple(more)
 
 
-def _limited(goals, offers):
+def limited_goals(goals, offers):
     """The goals of a state as far as some of its offers do them, and by their actions alone."""
-    names = _names_in(offers)
+    names = names_in(offers)
     return tuple([
         (tuple([offer for offer in done if offer in offers]), {name: moves[name] for name in moves if name in names})
         for done, moves in goals
@@ -188,7 +188,7 @@ def _moved_on(one, other, p, q):
     return found
 
 
-def _names_in(offers):
+def names_in(offers):
     """The set of all actions of some offers."""
     return tuple(sorted({name for names, _ in offers for name in names}))
 
@@ -228,7 +228,7 @@ def _are_steps(steps, offers):
     """Whether this is a tuple of dicts from just the actions of the allowed offers to states."""
     if not isinstance(steps, tuple) or len(steps) != len(offers):
         return False
-    return all([_is_row_of_steps(row, _names_in(offers[at]), len(offers)) for at, row in enumerate(steps)])
+    return all([_is_row_of_steps(row, names_in(offers[at]), len(offers)) for at, row in enumerate(steps)])
 
 
 def _is_row_of_steps(row, names, many):
