@@ -6,7 +6,10 @@ import unittest
 from whatparts.core.alike import are_alike, covers, difference, is_difference, word_beyond
 from whatparts.core.names import all_offers, all_words, is_offer, is_word
 from whatparts.core.parts import Part
+from whatparts.glue.inner import are_alike_joints, filled, joint_difference, least_joint, nested
 from whatparts.glue.joints import Joint
+from whatparts.miss.exact import fits, missing_wish, standings_after, suits
+from whatparts.miss.solved import find_part, good_offers, is_solve_paper, narrowed, rounds, solve_paper
 from whatparts.want.keeping import is_keep_paper, keep_paper, keeps, ways
 from whatparts.want.wishes import Wish, free_wish
 
@@ -45,9 +48,34 @@ EXAMPLES = '''
 
 >>> [WHOLE.steps, WHOLE.rests, BELT.after(("put", "take", "take")), BELT.seen("left", ("put", "take", "take")), BELT.seen("right", ("put",)), str(BELT)]
 [({'put': 1}, {'take': 0}), (0,), 0, ('put', 'get', 'get'), (), 'joint of 2 slots, 1 modes, 2 rules']
+
+>>> PAIR = Joint({"left": ("get", "put"), "right": ("take",)}, ({"put": ({"left": "put"}, 1), "take": ({"left": "get", "right": "take"}, 1)}, {"put": ({"left": "put"}, 0), "take": ({"left": "get", "right": "take"}, 0)}), (("left",), ("left",)))
+>>> [are_alike_joints(BELT, PAIR), least_joint(PAIR) == BELT, joint_difference(BELT, Joint(BELT.slots, BELT.rules, (None,))), filled(BELT, "left", TURN).slots]
+[True, True, (), {'right': ('take',)}]
+>>> INNER = Joint({"a": ("go",), "b": ("go",)}, ({"take": ({"a": "go"}, 1)}, {"take": ({"b": "go"}, 0)}), (("a", "b"), None))
+>>> [nested(BELT, "right", INNER).slots, nested(BELT, "right", INNER).seen("b", ("put", "take", "put", "take"))]
+[{'a': ('go',), 'b': ('go',), 'left': ('get', 'put')}, ('go',)]
+
+>>> [standings_after(BELT, "right", ONE, {"left": TURN}, ()), suits(BELT, "right", ONE, {"left": TURN}, ("take",), ((), True))]
+[((0, (0,), 0), (0, (1,), 1)), False]
+>>> MUST = missing_wish(BELT, "right", ONE, {"left": TURN})
+>>> [keeps(Part(({"take": 0},)), MUST), keeps(Part(({"take": 1}, {"take": 0}), (1,)), MUST), keeps(Part(({"take": 1}, {})), MUST), fits(BELT, ONE, {"left": TURN, "right": Part(({"take": 1}, {}))})]
+[True, True, False, False]
+
+>>> L = (("l",), False)
+>>> R = (("r",), False)
+>>> TWO = Wish.of(((L, R),), ({"l": 0, "r": 0},), ((((L,), {"r": (0,)}), ((R,), {"l": (1,)})),))
+>>> NOT = Wish.of(((L, R),), ({"l": 0, "r": 0},), ((((L,), {}), ((R,), {})),))
+>>> [rounds(TWO), rounds(NOT), good_offers(TWO, 0) == (L, R), find_part(NOT), solve_paper(NOT), keeps(find_part(TWO), TWO)]
+[(), ((0,),), True, None, ('rounds', ((0,),)), True]
+>>> DEAD = Wish(((L, R), ()), ({"l": 0, "r": 1}, {}))
+>>> [rounds(DEAD), narrowed(DEAD).offers == ((L,),), is_solve_paper(TWO, ("part", Part(({"l": 1}, {"r": 0})))), is_solve_paper(TWO, ("part", Part(({"l": 0},))))]
+[((1,),), True, True, False]
 '''
-BROUGHT = (Joint, Part, Wish, all_offers, all_words, are_alike, covers, difference, free_wish, is_difference,
-           is_keep_paper, is_offer, is_word, keep_paper, keeps, ways, word_beyond)
+BROUGHT = (Joint, Part, Wish, all_offers, all_words, are_alike, are_alike_joints, covers, difference, filled,
+           find_part, fits, free_wish, good_offers, is_difference, is_keep_paper, is_offer, is_solve_paper, is_word,
+           joint_difference, keep_paper, keeps, least_joint, missing_wish, narrowed, nested, rounds, solve_paper,
+           standings_after, suits, ways, word_beyond)
 
 
 class Examples(unittest.TestCase):
@@ -57,7 +85,7 @@ class Examples(unittest.TestCase):
         told = []
         result = doctest.DocTestRunner(verbose=False).run(examples, out=told.append)
         self.assertEqual(result.failed, 0, "".join(told))
-        self.assertEqual(result.attempted, 18)
+        self.assertEqual(result.attempted, 32)
 
 
 if __name__ == "__main__":

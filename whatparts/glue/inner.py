@@ -125,7 +125,8 @@ def _inserted(joint, slot, other):
                 order.append(target)
         rules.append({action: (needs, numbers[target]) for action, (needs, target) in row.items()})
     rests = [_inserted_rests(joint.rests[mode], slot, other.rests[inside]) for mode, inside in order]
-    return make_joint({**slots_beside(joint, slot), **other.slots}, rules, rests)
+    beside, more = slots_beside(joint, slot), other.slots
+    return make_joint({**beside, **more}, rules, rests)
 
 
 def _inserted_rules(row, slot, inner, inside):

@@ -82,7 +82,8 @@ class Around:
         seen = {spot: True}
         at = 0
         while at < len(found):
-            for target in self._goal_moves(found[at], None):
+            targets = self._goal_moves(found[at], None)
+            for target in targets:
                 if target not in seen:
                     seen[target] = True
                     found.append(target)
@@ -99,10 +100,11 @@ class Around:
 
     def _closed(self, standings):
         """The standings, and all that follow by rules that do not step the slot, ascending."""
-        found = {standing: True for standing in standings}
+        found = {first: True for first in standings}
         todo = list(found)
         while todo:
-            for _, own, target in self.moves(todo.pop()):
+            standing = todo.pop()
+            for _, own, target in self.moves(standing):
                 if own is None and target not in found:
                     found[target] = True
                     todo.append(target)
