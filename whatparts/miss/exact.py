@@ -14,7 +14,8 @@ class Around:
     """What is around a slot: a joint, a wish on the whole, and what is known of the other slots.
 
     `known` has for each other slot a pair of its steps and of the offers that it can make in each
-    state. A spot is a pair of a standing and the index of a goal of its state of the wish.
+    state. The slot is None if nothing is missing, and so is its offer then. A spot is a pair of a
+    standing and the index of a goal of its state of the wish.
     """
 
     def __init__(self, joint, slot, wish, known):
@@ -28,12 +29,16 @@ class Around:
         self._moves = {}
         self._made = {}
 
-    def first(self):
-        """The standings after the empty word."""
+    def start(self):
+        """The standing in which all are at first, alone in a list."""
         # What can make no offer at first is met by no part, so the whole can be in nothing.
         if not all([len(offers) > 0 and len(offers[0]) > 0 for _, offers in self._known.values()]):
-            return ()
-        return self._closed([(0, tuple([0 for _ in self._known]), 0 if len(self._allowed) > 0 else -1)])
+            return []
+        return [(0, tuple([0 for _ in self._known]), 0 if len(self._allowed) > 0 else -1)]
+
+    def first(self):
+        """The standings after the empty word."""
+        return self._closed(self.start())
 
     def after(self, standings, action):
         """The standings after one more action of the slot."""
@@ -49,24 +54,28 @@ class Around:
             self._moves[standing] = self._found_moves(standing)
         return self._moves[standing]
 
-    def is_suited(self, standing, offer):
-        """Whether the wish allows all offers that the whole can make with this offer of the slot."""
+    def unsuited(self, standing, offer):
+        """Offers of all slots, this one among them, that make one of the whole which the wish does not allow.
+
+        They stand in the order of `made`. None if there are none.
+        """
         state = standing[2]
-        if state == -1:
-            return False
-        return all([made in self._allowed[state] for made in self.made(standing, offer)])
+        for made, chosen in self.made(standing, offer).items():
+            if state == -1 or made not in self._allowed[state]:
+                return chosen
+        return None
 
     def made(self, standing, offer):
         """The offers that the whole can make in a standing with this offer of the slot.
 
-        They have the offers of all slots that make them, the slots ascending; that of the slot
-        stands behind those of the others.
+        They have the offers of all slots that make them, the other slots ascending, the slot behind them.
         """
         key = (standing[:2], offer)
         if key not in self._made:
-            choices = [(name, offers[standing[1][at]]) for at, (name, (_, offers)) in enumerate(self._known.items())]
-            mode = standing[0]
-            self._made[key] = _made_offers(self._rules[mode], self._rests[mode], [*choices, (self._slot, (offer,))])
+            mode, states = key[0]
+            choices = [(name, offers[states[at]]) for at, (name, (_, offers)) in enumerate(self._known.items())]
+            own = [] if offer is None else [(self._slot, (offer,))]
+            self._made[key] = _made_offers(self._rules[mode], self._rests[mode], choices + own)
         return self._made[key]
 
     def spots(self, standings):
@@ -181,7 +190,7 @@ def known_part(part):
 
 def are_suited(around, standings, offer):
     """Whether an offer suits some standings."""
-    return all([around.is_suited(standing, offer) for standing in standings])
+    return all([around.unsuited(standing, offer) is None for standing in standings])
 
 
 def wish_around(around, names):
