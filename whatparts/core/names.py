@@ -8,10 +8,15 @@ MAX_LENGTH = 6
 LETTERS = "abcdefghijklmnopqrstuvwxyz"
 
 
-def is_number(value, low, high):
-    """Whether the value is an integer from low to high."""
+def is_count(value):
+    """Whether the value is an integer from 0 on."""
     # Python counts True and False among the integers, this package does not.
-    return isinstance(value, int) and not isinstance(value, bool) and low <= value <= high
+    return isinstance(value, int) and not isinstance(value, bool) and value >= 0
+
+
+def is_number(value, low, high):
+    """Whether the value is an integer from low, which is at least 0, to high."""
+    return is_count(value) and low <= value <= high
 
 
 def is_name(value):

@@ -1,6 +1,6 @@
 """Whether a part keeps a wish, and papers that show it."""
 
-from whatparts.core.names import is_number, is_word
+from whatparts.core.names import is_count, is_number, is_word
 from whatparts.core.parts import check_part
 from whatparts.core.tables import follow, walk_both, word_to
 from whatparts.errors import InvalidOperation
@@ -175,7 +175,7 @@ def _is_row(row, many):
     """Whether this is a tuple of so many integers from 0 on."""
     if not isinstance(row, tuple) or len(row) != many:
         return False
-    return all([isinstance(number, int) and not isinstance(number, bool) and number >= 0 for number in row])
+    return all([is_count(number) for number in row])
 
 
 def _is_right_row(pairing, table, pair):

@@ -1,0 +1,1 @@
+"""Systems that are kept while they are changed."""

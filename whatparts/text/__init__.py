@@ -1,0 +1,1 @@
+"""Texts of the values of the package."""
