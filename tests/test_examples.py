@@ -3,17 +3,22 @@
 import doctest
 import unittest
 
+from whatparts import errors
 from whatparts.core.alike import are_alike, covers, difference, is_difference, word_beyond
 from whatparts.core.names import all_offers, all_words, is_offer, is_word
 from whatparts.core.parts import Part
 from whatparts.glue.inner import are_alike_joints, filled, joint_difference, least_joint, nested
 from whatparts.glue.joints import Joint
+from whatparts.live.desk import Desk
+from whatparts.miss.compared import are_same, freest_part, full_wish, is_parting, is_within, least_wish, parting_part
+from whatparts.miss.contracts import breaking_parts, is_breaking, whatever_wish
 from whatparts.miss.exact import fits, missing_wish, standings_after, suits
 from whatparts.miss.solved import find_part, good_offers, is_solve_paper, narrowed, rounds, solve_paper
+from whatparts.text.formats import read_offer, read_part, read_wish, write_joint, write_part, write_wish, write_word
 from whatparts.want.keeping import is_keep_paper, keep_paper, keeps, ways
 from whatparts.want.wishes import Wish, free_wish
 
-EXAMPLES = '''
+EXAMPLES = r'''
 >>> TURN = Part(({"put": 1}, {"get": 0}), (0,))
 >>> BELT = Joint({"left": ("get", "put"), "right": ("take",)}, ({"put": ({"left": "put"}, 0), "take": ({"left": "get", "right": "take"}, 0)},), (("left",),))
 >>> ONE = Wish((((("put",), True),), ((("take",), False),)), ({"put": 1}, {"take": 0}))
@@ -71,21 +76,58 @@ EXAMPLES = '''
 >>> DEAD = Wish(((L, R), ()), ({"l": 0, "r": 1}, {}))
 >>> [rounds(DEAD), narrowed(DEAD).offers == ((L,),), is_solve_paper(TWO, ("part", Part(({"l": 1}, {"r": 0})))), is_solve_paper(TWO, ("part", Part(({"l": 0},))))]
 [((1,),), True, True, False]
+
+>>> OPEN = FEW.without_goals()
+>>> [is_within(FEW, OPEN), is_within(OPEN, FEW), keeps(parting_part(OPEN, FEW), OPEN), is_parting(OPEN, FEW, Part(({"a": 0},))), are_same(ONE, ONE.lively())]
+[True, False, True, True, True]
+>>> [freest_part(FEW), are_alike(freest_part(OPEN), Part(({"a": 0},))), least_wish(DEAD).offers == ((L,),), full_wish(TWO).offers, are_alike(freest_part(DEAD), Part(({"l": 0},)))]
+[None, True, True, ((),), True]
+
+>>> SURE = Wish((((("put",), True),), ((("get",), False),)), ({"put": 1}, {"get": 0}))
+>>> LAZY = Wish(((((), True), (("put",), True)), ((("get",), False),)), ({"put": 1}, {"get": 0}))
+>>> [are_same(whatever_wish(BELT, "right", ONE, {"left": SURE}), MUST), find_part(whatever_wish(BELT, "right", ONE, {"left": LAZY})), breaking_parts(BELT, ONE, {"left": SURE, "right": Part(({"take": 0},))})]
+[True, None, None]
+>>> [is_breaking(BELT, ONE, {"left": LAZY, "right": Part(({"take": 0},))}, {"left": Part(({},), (0,)), "right": Part(({"take": 0},))}), breaking_parts(BELT, ONE, {"left": LAZY, "right": Part(({},))}) is None]
+[True, False]
+
+>>> [write_part(TURN), write_wish(FEW), read_offer("a+b!"), write_word(("b", "a")), read_wish(write_wish(TWO)) == TWO]
+['part\n0! put 1\n1: get 0', 'wish\n0: 0!, a | a 0\ngoal 0! | a 0', (('a', 'b'), True), 'b a', True]
+>>> write_joint(BELT)
+'joint\nslot left: get put\nslot right: take\nmode 0: left\nput: left.put -> 0\ntake: left.get right.take -> 0'
+>>> read_part("part\n0: put 1\n2: -")
+raises ParseError
+
+>>> desk = Desk(BELT)
+>>> [desk.wish("turns", ONE), desk.put("left", TURN), desk.open_slots, are_same(desk.need("right"), MUST), desk.can_put("right", Part(({"take": 1}, {})))]
+[None, None, ('right',), True, False]
+>>> [desk.put("right", Part(({"take": 0},))), desk.whole == WHOLE, desk.during(lambda same: same.take("left")), desk.undo(), str(desk)]
+[None, True, None, 2, 'desk of 2 slots, 1 open, 1 wishes']
+>>> desk.put("right", TURN)
+raises InvalidPart
+>>> desk.put("right", Part(({},)))
+raises Refused
 '''
-BROUGHT = (Joint, Part, Wish, all_offers, all_words, are_alike, are_alike_joints, covers, difference, filled,
-           find_part, fits, free_wish, good_offers, is_difference, is_keep_paper, is_offer, is_solve_paper, is_word,
-           joint_difference, keep_paper, keeps, least_joint, missing_wish, narrowed, nested, rounds, solve_paper,
-           standings_after, suits, ways, word_beyond)
+BROUGHT = (Desk, Joint, Part, Wish, all_offers, all_words, are_alike, are_alike_joints, are_same, breaking_parts, covers,
+           difference, filled, find_part, fits, free_wish, freest_part, full_wish, good_offers, is_breaking,
+           is_difference, is_keep_paper, is_offer, is_parting, is_solve_paper, is_within, is_word, joint_difference,
+           keep_paper, keeps, least_joint, least_wish, missing_wish, narrowed, nested, parting_part, read_offer,
+           read_part, read_wish, rounds, solve_paper, standings_after, suits, ways, whatever_wish, word_beyond,
+           write_joint, write_part, write_wish, write_word)
 
 
 class Examples(unittest.TestCase):
     def test_as_they_stand(self):
         brought = {value.__name__: value for value in BROUGHT}
-        examples = doctest.DocTestParser().get_doctest(EXAMPLES, brought, "DOC.md", None, 0)
-        told = []
-        result = doctest.DocTestRunner(verbose=False).run(examples, out=told.append)
-        self.assertEqual(result.failed, 0, "".join(told))
-        self.assertEqual(result.attempted, 32)
+        examples = doctest.DocTestParser().get_examples(EXAMPLES)
+        for example in examples:
+            if example.want.startswith("raises "):
+                with self.assertRaises(getattr(errors, example.want.split()[1]), msg=example.source):
+                    eval(example.source, brought)
+            elif example.want:
+                self.assertEqual(repr(eval(example.source, brought)) + "\n", example.want, example.source)
+            else:
+                exec(example.source, brought)
+        self.assertEqual(len(examples), 47)
 
 
 if __name__ == "__main__":
