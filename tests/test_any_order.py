@@ -4,12 +4,19 @@ import random
 import unittest
 
 from tests.helpers import turn
-from tests.joining import belt, joint_of, small_parts, some_fillings, some_joint
+from tests.joining import belt, doubled, joint_of, small_parts, some_fillings, some_joint
 from tests.missing import does_fit, generous, objects, parts_of_slot, some_systems
-from tests.wishing import does_keep, part_of, some_wish, tables_of, turns, wish_of
-from whatparts.glue.inner import filled, nested
-from whatparts.glue.joints import Joint
-from whatparts.miss.exact import fits, missing_wish, standings_after
+from tests.wishing import does_keep, part_of, some_wish, table_of, tables_of, turns, wish_of
+from whatparts.core.alike import are_alike
+from whatparts.core.parts import Part
+from whatparts.errors import TooMany
+from whatparts.glue.inner import are_alike_joints, filled, least_joint, nested
+from whatparts.miss.compared import are_same as keep_same
+from whatparts.miss.compared import is_within, parting_part
+from whatparts.miss.exact import fits, missing_wish
+from whatparts.miss.solved import find_part, narrowed
+from whatparts.want.keeping import keeps
+from whatparts.want.wishes import free_wish
 
 
 def some_nests(many, seed, most_goals=2):
@@ -28,6 +35,13 @@ def some_nests(many, seed, most_goals=2):
     return found
 
 
+def unrolled(source, part):
+    """An alike part with each state twice."""
+    many = len(part)
+    steps = [{name: goal + many * source.randrange(2) for name, goal in row.items()} for row in part.steps * 2]
+    return Part(tuple(steps), part.rests + tuple(state + many for state in part.rests))
+
+
 def parts_in(tables):
     return {name: part_of(table) for name, table in tables.items()}
 
@@ -42,6 +56,7 @@ class FilledFirst(unittest.TestCase):
                 rest = {name: part for name, part in parts.items() if name != first}
                 one = missing_wish(joint, slot, wish, parts)
                 other = missing_wish(filled(joint, first, parts[first]), slot, wish, rest)
+                self.assertTrue(keep_same(one, other))
                 for table in parts_of_slot(system, source, 3):
                     right = does_keep(table, tables_of(one))
                     found[right] += 1
@@ -50,7 +65,7 @@ class FilledFirst(unittest.TestCase):
 
     def test_example(self):
         one = missing_wish(belt(), "right", turns(), {"left": turn()})
-        self.assertEqual(missing_wish(filled(belt(), "left", turn()), "right", turns(), {}).offers, one.offers)
+        self.assertTrue(keep_same(missing_wish(filled(belt(), "left", turn()), "right", turns(), {}), one))
 
 
 class Nested(unittest.TestCase):
@@ -63,6 +78,7 @@ class Nested(unittest.TestCase):
             one = missing_wish(made, inside, wish_of(wish), both)
             between = missing_wish(joint_of(joint), slot, wish_of(wish), parts_in(outer))
             two = missing_wish(joint_of(other), inside, between, parts_in(inner))
+            self.assertTrue(keep_same(one, two))
             names = other[0][inside]
             for table in small_parts(names) + [some_fillings(source, {"a": names})["a"] for _ in range(4)]:
                 right = does_keep(table, tables_of(one))
@@ -83,23 +99,72 @@ class Nested(unittest.TestCase):
                 self.assertEqual(fits(joint_of(joint), wish_of(wish), {**parts_in(outer), slot: whole}), right)
 
 
+class Alike(unittest.TestCase):
+    def test_alike_joints_and_alike_parts(self):
+        source = random.Random(3)
+        for system in some_systems(150, 26):
+            joint, slot, wish, parts = objects(system)
+            other = {name: unrolled(source, part) for name, part in parts.items()}
+            self.assertTrue(all(are_alike(parts[name], other[name]) for name in parts))
+            twice = joint_of(doubled(source, system[0]))
+            self.assertTrue(are_alike_joints(joint, twice))
+            one = missing_wish(joint, slot, wish, parts)
+            for two in (missing_wish(twice, slot, wish, other), missing_wish(least_joint(joint), slot, wish, parts),
+                        missing_wish(joint, slot, wish, {name: part.least() for name, part in parts.items()})):
+                self.assertTrue(keep_same(one, two))
+
+    def test_wishes_on_the_whole_that_lie_within_others(self):
+        source = random.Random(4)
+        unlike = 0
+        for system in some_systems(200, 27):
+            joint, slot, wide, parts = objects(system)
+            narrow = wide & wish_of(generous(source, some_wish(source, "xy", 2, 1)))
+            self.assertTrue(is_within(narrow, wide))
+            first, second = missing_wish(joint, slot, narrow, parts), missing_wish(joint, slot, wide, parts)
+            self.assertTrue(is_within(first, second))
+            unlike += not is_within(second, first)
+        self.assertGreater(unlike, 20)
+
+    def test_wishes_that_the_same_parts_keep(self):
+        for system in some_systems(100, 28):
+            joint, slot, wish, parts = objects(system)
+            self.assertTrue(keep_same(missing_wish(joint, slot, wish, parts), missing_wish(joint, slot, narrowed(wish), parts)))
+
+
 class Placed(unittest.TestCase):
     def test_each_part_in_the_place_of_each_other(self):
-        for system in some_systems(60, 26):
-            wish = tables_of(missing_wish(*objects(system)))
-            for table in parts_of_slot(system):
-                self.assertEqual(does_keep(table, wish), does_fit(system, table))
+        unlike = 0
+        for system in some_systems(80, 29):
+            joint, slot, wish, parts = objects(system)
+            missing = missing_wish(joint, slot, wish, parts)
+            kept = [part_of(table) for table in parts_of_slot(system) if does_keep(table, tables_of(missing))]
+            wholes = [joint({**parts, slot: part}) for part in kept]
+            self.assertTrue(all(keeps(whole, wish) for whole in wholes))
+            unlike += any(not are_alike(whole, wholes[0]) for whole in wholes)
+        self.assertGreater(unlike, 4)
 
-    def test_alike_joints_and_parts(self):
-        one = Joint(belt().slots, ({"put": ({"left": "put"}, 1), "take": ({"left": "get", "right": "take"}, 1)},
-                                   {"put": ({"left": "put"}, 0), "take": ({"left": "get", "right": "take"}, 0)}),
-                    (("left",), ("left",)))
-        left = part_of((({"put": 1}, {"get": 2}, {"put": 3}, {"get": 0}), (0, 2)))
-        self.assertEqual(len(standings_after(one, "right", turns(), {"left": left}, ())), 2)
-        first = tables_of(missing_wish(belt(), "right", turns(), {"left": turn()}))
-        second = tables_of(missing_wish(one, "right", turns(), {"left": left}))
-        for table in small_parts(("take",)):
-            self.assertEqual(does_keep(table, first), does_keep(table, second))
+    def test_the_greatest_wish(self):
+        # A wish that is not within the missing one has a part with which the whole does not keep the wish.
+        source = random.Random(5)
+        found = {True: 0, False: 0}
+        for system in some_systems(200, 30):
+            joint, slot, wish, parts = objects(system)
+            names = system[0][0][slot]
+            other = wish_of(generous(source, some_wish(source, names, 2, 1))) if names else free_wish(())
+            other = other & free_wish(names)
+            missing = missing_wish(joint, slot, wish, parts)
+            try:
+                part = parting_part(other, missing)
+            except TooMany:
+                continue
+            found[part is None] += 1
+            if part is not None:
+                self.assertTrue(keeps(part, other))
+                self.assertFalse(does_fit(system, table_of(part)))
+            else:
+                best = find_part(other)
+                self.assertTrue(best is None or does_fit(system, table_of(best)))
+        self.assertGreater(min(found.values()), 40)
 
 
 if __name__ == "__main__":

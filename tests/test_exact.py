@@ -13,6 +13,7 @@ from whatparts.glue.inner import filled, nested
 from whatparts.glue.joints import Joint
 from whatparts.miss import exact
 from whatparts.miss.exact import fits, missing_wish, standings_after, suits
+from whatparts.miss.solved import find_part
 from whatparts.want.keeping import keeps
 from whatparts.want.wishes import Wish, free_wish
 
@@ -199,7 +200,7 @@ class Missing(unittest.TestCase):
         for table, right in zip(tables, kept):
             self.assertEqual(does_keep(table, tables_of(wish)), right, (system, table))
             self.assertEqual(keeps(part_of(table), wish), right)
-        return any(kept), all(kept), wish.has_goals
+        return any(kept), all(kept), any(system[2][2])
 
     def test_a_part_keeps_it_exactly_if_the_whole_keeps_the_wish(self):
         source = random.Random(5)
@@ -207,7 +208,7 @@ class Missing(unittest.TestCase):
         for system in some_systems(500, 5):
             kinds = self.check(system, parts_of_slot(system, source, 6))
             found[kinds] = found.get(kinds, 0) + 1
-        self.assertGreater(min(found[True, False, goals] for goals in (True, False)), 15)
+        self.assertGreater(min(found[True, False, goals] for goals in (True, False)), 10)
         self.assertGreater(min(found[True, True, goals] for goals in (True, False)), 20)
 
     def test_with_more_states(self):
@@ -233,13 +234,41 @@ class Missing(unittest.TestCase):
                       (("left",),))
         wish = free_wish(("a", "b")).lively()
         for left, right in ((Part(({"go": 1}, {}), (1,)), True), (Part(({"go": 0},)), False),
-                            (Part(({"go": 1}, {"go": 0}), (0,)), True), (Part(({},), (0,)), True), (Part(({},)), False)):
+                            (Part(({"go": 1}, {"go": 2}, {"go": 3}, {}), (3,)), True),
+                            (Part(({"go": 1}, {"go": 2}, {"go": 3}, {}), (1,)), False), (Part(({"go": 1}, {"go": 0}), (0,)), True), (Part(({},), (0,)), True), (Part(({},)), False)):
             missing = missing_wish(joint, "right", wish, {"left": left})
             for part in (Part(({},)), Part(({"do": 0},)), Part(({"do": 1}, {}), (1,))):
                 self.assertEqual(keeps(part, missing), right)
         missing = missing_wish(joint, "left", wish, {"right": Part(({"do": 0},))})
         for part, right in ((Part(({"go": 1}, {}), (1,)), True), (Part(({"go": 0},)), False), (Part(({},), (0,)), True)):
             self.assertEqual(keeps(part, missing), right)
+
+    def test_goals_along_several_steps_without_the_part(self):
+        # The goal is done by the third step of the left part alone, and moves along the way there.
+        joint = Joint({"left": ("go",), "right": ("do",)}, ({"a": ({"left": "go"}, 0), "b": ({"right": "do"}, 0)},), (None,))
+        first = (("a", "b"), False)
+        last = (("b",), False)
+        free = free_wish(("a", "b"))
+        goals = tuple((((last,) if at == 3 else (), {"a": (0,)} if at < 3 else {}),) for at in range(4))
+        wish = Wish.of((free.offers[0],) * 4, tuple({"a": min(at + 1, 3), "b": at} for at in range(4)), goals)
+        left = Part(({"go": 1}, {"go": 2}, {"go": 3}, {}))
+        missing = missing_wish(joint, "right", wish, {"left": left})
+        for part, right in ((Part(({"do": 0},)), True), (Part(({},)), False), (Part(({"do": 1}, {})), False)):
+            self.assertEqual(keeps(part, missing), right)
+            self.assertEqual(fits(joint, wish, {"left": left, "right": part}), right)
+        self.assertIs(suits(joint, "right", wish, {"left": left}, (), (("do",), True)), True)
+        self.assertIs(first in wish.offers[0], True)
+
+    def test_parts_are_found_where_many_goals_are_served_anyway(self):
+        # The left part has eight states, and in each of them the whole must be able to come to rest.
+        joint = Joint({"left": ("a",), "right": ("do",)}, ({"a": ({"left": "a"}, 0), "b": ({"right": "do"}, 0)},), (("left",),))
+        wish = missing_wish(joint, "right", free_wish(("a", "b")).lively(), {"left": ring(8)})
+        self.assertTrue(keeps(Part(({},)), wish))
+        self.assertIsNotNone(find_part(wish))
+        joint = Joint(joint.slots, joint.rules, (("right",),))
+        wish = missing_wish(joint, "right", free_wish(("a", "b")).lively(), {"left": ring(8)})
+        self.assertEqual([keeps(Part(({},)), wish), keeps(Part(({"do": 1}, {}), (1,)), wish)], [False, True])
+        self.assertTrue(keeps(find_part(wish), wish))
 
     def test_goals_that_need_the_part(self):
         joint = Joint({"left": ("go",), "right": ("do",)}, ({"a": ({"left": "go"}, 1)}, {"b": ({"right": "do"}, 0)}),

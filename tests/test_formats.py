@@ -139,9 +139,9 @@ def some_texts():
     words = [(), ("a",), ("b", "a", "b"), ("get", "put", "abcdefgh")]
     found = [("word", write_word(word)) for word in words]
     found += [("offer", write_offer(offer)) for offer in (((), False), ((), True), (("a", "b"), True), (("put",), False))]
-    found += [("part", write_part(part_of(table))) for table in some_tables(25, seed=1)]
-    found += [("wish", write_wish(wish_of(tables))) for tables in some_wishes(25, "abc", 2)]
-    found += [("joint", write_joint(joint_of(tables))) for tables in some_joints(30, 3)]
+    found += [("part", write_part(part_of(table))) for table in some_tables(12, seed=1)]
+    found += [("wish", write_wish(wish_of(tables))) for tables in some_wishes(12, "abc", 2)]
+    found += [("joint", write_joint(joint_of(tables))) for tables in some_joints(14, 3)]
     return found
 
 

@@ -31,7 +31,7 @@ class Chases:
         seen = {start: True}
         at = 0
         while at < len(order):
-            _, _, turns = self.copy(order[at])
+            _, _, turns = self.copied(order[at])
             for chase in turns.values():
                 if chase not in seen:
                     seen[chase] = True
@@ -41,7 +41,7 @@ class Chases:
             at += 1
         return order
 
-    def copy(self, chase):
+    def copied(self, chase):
         """The state of the first wish, its offers that do none of the goals, and the chases behind some actions."""
         if chase not in self._copies:
             p, q, goals = chase
@@ -60,7 +60,7 @@ class Chases:
         numbers = {chase: ahead + at for at, chase in enumerate(chases)}
         found = []
         for chase in chases:
-            state, offers, turns = self.copy(chase)
+            state, offers, turns = self.copied(chase)
             found.append((state, offers, {name: numbers[turns[name]] for name in turns}))
         return found
 

@@ -4,6 +4,7 @@ from whatparts.core.names import all_offers, is_offer, is_word
 from whatparts.core.tables import reached
 from whatparts.errors import InvalidOperation, TooMany
 from whatparts.glue.joints import check_joint, check_parts, check_slot, slots_beside, whole_of
+from whatparts.miss.goals import fewer_goals
 from whatparts.want.keeping import keeps
 from whatparts.want.wishes import check_wish, names_in, reached_wish
 
@@ -207,7 +208,7 @@ def wish_around(around, names):
     for at, row in enumerate(spots):
         behind = {action: places[goes] for action, goes in steps[at].items()}
         goals.append([_goal(around, spot, offers[at], behind) for spot in row])
-    return reached_wish(offers, steps, goals)
+    return reached_wish(offers, steps, fewer_goals(offers, steps, goals))
 
 
 def _around_parts(joint, slot, wish, others):
