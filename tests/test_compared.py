@@ -258,6 +258,14 @@ class Limits(unittest.TestCase):
                     function(one, other)
                 self.assertEqual(caught.exception.limit, 200)
 
+    def test_goals_that_move_to_none_are_no_chases(self):
+        one, other = many_chases(0, False)
+        goals = tuple(row[:3] + ((row[3][0], {"a": (3,), "b": (3,)}),) for row in other.goals)
+        ending = Wish.of(other.offers, other.steps, goals)
+        self.assertEqual(count_chases(one, ending), 200)
+        self.assertIs(is_within(one, ending), False)
+        self.assertTrue(is_parting(one, ending, parting_part(one, ending)))
+
     def test_what_comes_ahead_of_it(self):
         one, other = many_chases(1, False)
         never = one & Wish(((),), ({},))

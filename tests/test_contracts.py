@@ -153,6 +153,15 @@ class Whatever(unittest.TestCase):
             for right in (TAKE, Part(({},)), free_wish(("take",))):
                 self.assertIsNone(breaking_parts(belt(), turns(), {"left": known, "right": right}))
 
+    def test_no_standings_where_no_part_meets_a_wish(self):
+        # The slots x and z alone go on through more than forty tuples; but there are none, as nothing meets what y is.
+        joint = Joint({slot: ("a",) for slot in "xyz"}, ({"a": ({"x": "a", "z": "a"}, 0)},), (None,))
+        with self.assertRaises(TooMany):
+            whatever_wish(joint, "x", going(8), {"y": going(1), "z": ring(7)})
+        for known in (EMPTY, never(), Wish(((), (((), False),)), ({}, {}))):
+            made = whatever_wish(joint, "x", going(8), {"y": known, "z": ring(7)})
+            self.assertTrue(are_same(made, free_wish(("a",))))
+
     def test_only_good_offers_count(self):
         # The known wish allows to put twice, but then nothing can be done that keeps it.
         known = Wish((((("put",), True),), ((("get",), False), (("put",), False)), ()),

@@ -270,6 +270,22 @@ class Missing(unittest.TestCase):
         self.assertEqual([keeps(Part(({},)), wish), keeps(Part(({"do": 1}, {}), (1,)), wish)], [False, True])
         self.assertTrue(keeps(find_part(wish), wish))
 
+    def test_goals_that_are_served_anyway_are_not_told(self):
+        # The only offer that is allowed leads from state to state, until in the last one it does the goal.
+        offer = (("a",), False)
+        for states in (1, 2, 8):
+            goals = tuple((((offer,) if at == states - 1 else (), {"a": (0,)}),) for at in range(states))
+            wish = Wish.of(((offer,),) * states, tuple({"a": (at + 1) % states} for at in range(states)), goals)
+            missing = missing_wish(in_step("x"), "x", wish, {})
+            self.assertEqual([keeps(Part(({"a": 0},)), missing), keeps(Part(({},)), missing), missing.has_goals],
+                             [True, False, False])
+        # Where another offer is allowed, too, the goal must be served.
+        stop = ((), False)
+        wish = Wish.of(((stop, offer), (stop, offer)), ({"a": 1}, {"a": 0}), ((((), {"a": (0,)}),), (((offer,), {}),)))
+        missing = missing_wish(in_step("x"), "x", wish, {})
+        self.assertEqual([keeps(Part(({"a": 0},)), missing), keeps(Part(({"a": 1}, {})), missing), missing.has_goals],
+                         [True, False, True])
+
     def test_goals_that_need_the_part(self):
         joint = Joint({"left": ("go",), "right": ("do",)}, ({"a": ({"left": "go"}, 1)}, {"b": ({"right": "do"}, 0)}),
                       (("right",), None))
