@@ -9,6 +9,7 @@ import re
 
 from whatparts.core.parts import Part
 from whatparts.glue.joints import Joint
+from whatparts.live.desk import Desk
 from whatparts.want.wishes import Wish, free_wish
 
 
@@ -46,6 +47,7 @@ def values_of_every_kind():
         deep(lambda value: (value,)), deep(lambda value: [value]), deep(lambda value: {"a": value}),
         part, (part,), [part], {"a": part}, (("a",), part),
         Wish((), ()), wish, (wish,), [wish], {"a": wish}, joint, (joint,), [joint], {"left": joint}, (part, wish, joint),
+        Desk(joint), (Desk(joint),), [Desk(joint)], {"left": Desk(joint)},
     ]
 
 
