@@ -291,6 +291,13 @@ class Limits(unittest.TestCase):
         with self.assertRaises(TooMany):
             are_same(one & small, other)
         self.assertIs(are_same(other, unlike), False)
+        # The first direction is not true, so the second one, which has too many chases, is not tried.
+        served = many_chases(1, True)[1]
+        wide = Wish.of(((ALL, (("a", "b", "c"), True)),) * 5, served.steps, served.goals)
+        self.assertEqual([is_within(wide, one), are_same(wide, one)], [False, False])
+        for function in OF_TWO:
+            with self.assertRaises(TooMany):
+                function(one, wide)
 
     def test_seven_goals(self):
         seven = one_by_one(7)
