@@ -50,15 +50,21 @@ def reached(steps):
 
 def _groups(steps, marks, order):
     """A number for each state of the order: the same for states behind which all marks are the same."""
-    numbers = {}
-    groups = {}
-    for state in order:
-        groups[state] = numbers.setdefault(marks[state], len(numbers))
+    groups = _by_marks(marks, order)
     while True:
         finer = _split(steps, groups)
         if finer == groups:
             return groups
         groups = finer
+
+
+def _by_marks(marks, order):
+    """A number for each state of the order: the same for states with the same mark."""
+    numbers = {}
+    groups = {}
+    for state in order:
+        groups[state] = numbers.setdefault(marks[state], len(numbers))
+    return groups
 
 
 def _split(steps, groups):
